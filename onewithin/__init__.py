@@ -1,0 +1,1 @@
+"""Onewithin: one at a time by plain boxes."""
