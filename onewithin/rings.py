@@ -1,0 +1,99 @@
+"""Fair rings: by which a hand is kept out, and by which all are stuck."""
+
+from onewithin.knots import knots_of
+from onewithin.standings import are_all_outside, comes_within, is_on_its_way, moves
+from onewithin.tables import run_in, table_of
+from onewithin.ways import check_hand, check_way
+
+
+def kept_out(way, hand):
+    """(run, ring) by which a hand is on its way for ever, or None."""
+    check_hand(way, hand)
+    table = table_of(way)
+    here = {standing: True for standing in table if is_on_its_way(way, standing, hand)}
+    edges = {}
+    for standing in here:
+        edges[standing] = [edge for edge in moves(way, standing) if edge[1] in here]
+    return run_and_ring(table, edges)
+
+
+def stuck(way):
+    """(run, ring) by which not all are outside and nobody comes within for ever, or None."""
+    check_way(way)
+    table = table_of(way)
+    edges = {}
+    for standing in table:
+        if not are_all_outside(standing):
+            edges[standing] = [edge for edge in moves(way, standing) if is_vain(way, standing, edge)]
+    return run_and_ring(table, edges)
+
+
+def is_vain(way, standing, edge):
+    """True where by this step nobody comes within and not all are outside behind it."""
+    step, behind = edge
+    return not are_all_outside(behind) and not comes_within(way, standing, step, behind)
+
+
+def run_and_ring(table, edges):
+    """A fair ring along the edges, with a run to it, or None.
+
+    In each standing of the edges some hand isn't outside. A ring stays in one knot. A hand without a step in its
+    knot is at the same spot all along it, so there is a fair ring in the knot just where all of these are outside.
+    """
+    for knot in knots_of(edges):
+        first = list(knot)[0]
+        stepping = hands_stepping(knot)
+        if all([hand in stepping for hand in hands_inside(first)]):
+            return run_in(table, first), ring_at(knot, first)
+    return None
+
+
+def hands_inside(standing):
+    """The hands that aren't outside."""
+    return [hand for hand, spot in enumerate(standing[0]) if spot != 0]
+
+
+def hands_stepping(knot):
+    """The hands that take a step in the knot, as keys."""
+    hands = {}
+    for standing in knot:
+        for step, behind in knot[standing]:
+            hands[step[0]] = True
+    return hands
+
+
+def ring_at(knot, first):
+    """A fair ring at the first standing.
+
+    Who is outside there and takes no step stays outside, so all others have to step.
+    """
+    ring = []
+    here = first
+    missing = hands_inside(first)
+    while missing:
+        steps, here = nearest(knot, here, missing, None)
+        ring.extend(steps)
+        taken = [hand for hand, told in steps]
+        missing = [hand for hand in missing if hand not in taken]
+    if here != first:
+        ring.extend(nearest(knot, here, [], first)[0])
+    return tuple(ring)
+
+
+def nearest(knot, start, hands, goal):
+    """(steps, standing behind them): the fewest whose last one is of one of the hands or leads to the goal.
+
+    There are such: in a knot each standing leads to all others.
+    """
+    table = {start: None}
+    waiting = [start]
+    at = 0
+    while True:
+        here = waiting[at]
+        for step, behind in knot[here]:
+            if step[0] in hands or behind == goal:
+                return run_in(table, here) + (step,), behind
+            if behind not in table:
+                table[behind] = (here, step)
+                waiting.append(behind)
+        at += 1
