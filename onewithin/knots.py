@@ -18,7 +18,7 @@ def knots_of(edges):
 
 
 def numbered(edges):
-    """For each standing the number of its knot.
+    """For each standing the number of its knot; along no edge the numbers fall.
 
     The standing that is done last leads to no knot that isn't done but its own along the edges turned round.
     """

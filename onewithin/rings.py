@@ -1,8 +1,9 @@
 """Fair rings: by which a hand is kept out, and by which all are stuck."""
 
 from onewithin.knots import knots_of
+from onewithin.searches import run_in
 from onewithin.standings import are_all_outside, comes_within, is_on_its_way, moves
-from onewithin.tables import run_in, table_of
+from onewithin.tables import edges_among, table_of
 from onewithin.ways import check_hand, check_way
 
 
@@ -11,10 +12,7 @@ def kept_out(way, hand):
     check_hand(way, hand)
     table = table_of(way)
     here = {standing: True for standing in table if is_on_its_way(way, standing, hand)}
-    edges = {}
-    for standing in here:
-        edges[standing] = [edge for edge in moves(way, standing) if edge[1] in here]
-    return run_and_ring(table, edges)
+    return run_and_ring(table, edges_among(way, here))
 
 
 def stuck(way):

@@ -1,7 +1,8 @@
 """Two within."""
 
+from onewithin.searches import run_in
 from onewithin.standings import how_many_within
-from onewithin.tables import run_in, table_of
+from onewithin.tables import table_of
 from onewithin.ways import check_way
 
 

@@ -83,21 +83,19 @@ def looks(way, standing, hand, row):
     spots, values = standing
     box, numbers, place = row[1:]
     found = []
-    for told in may_be_told(way, standing, box):
+    for told in may_be_told(way[0][box], values[box], being_written(way, spots, box)):
         spot = spot_on(way, hand, spots[hand] // 2) if told in numbers else place * 2
         found.append(((hand, told), (put(spots, hand, spot), values)))
     return found
 
 
-def may_be_told(way, standing, box):
-    """The numbers that a look at this box may be told, rising."""
-    kind, size = way[0][box][:2]
-    spots, values = standing
-    coming = being_written(way, spots, box)
+def may_be_told(box, value, coming):
+    """The numbers that a look at a box may be told, rising: it holds value, coming is being written, None of none."""
+    kind, size, start = box
     if coming is None:
-        return [values[box]]
+        return [value]
     if kind == "either":
-        return sorted({values[box], coming})
+        return sorted({value, coming})
     return list(range(size))
 
 

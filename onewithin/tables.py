@@ -1,10 +1,8 @@
 """All standings that are come to, and shortest runs to them."""
 
-from onewithin.errors import TooMany
+from onewithin.searches import MOST, run_in, table_from
 from onewithin.standings import check_standing, first_of, moves
 from onewithin.ways import check_way
-
-MOST = 3000
 
 
 def all_standings(way):
@@ -21,31 +19,13 @@ def run_to(way, standing):
 
 
 def table_of(way):
-    """For each standing come to (the one ahead of it, the step from there), None for the first.
-
-    The standings are in the order of their shortest runs, which lead back along what is told.
-    """
-    first = first_of(way)
-    table = {first: None}
-    waiting = [first]
-    at = 0
-    while at < len(waiting):
-        here = waiting[at]
-        for step, behind in moves(way, here):
-            if behind not in table:
-                table[behind] = (here, step)
-                waiting.append(behind)
-            if len(table) > MOST:
-                raise TooMany("more standings than are gone through")
-        at += 1
-    return table
+    """The table of all standings come to, TooMany where they are more than 3000."""
+    return table_from(first_of(way), lambda standing: moves(way, standing), MOST)
 
 
-def run_in(table, standing):
-    """The run that the table has to one of its standings."""
-    steps = []
-    ahead = table[standing]
-    while ahead is not None:
-        steps.append(ahead[1])
-        ahead = table[ahead[0]]
-    return tuple(reversed(steps))
+def edges_among(way, here):
+    """For each standing that is a key of here a list of its moves to such."""
+    edges = {}
+    for standing in here:
+        edges[standing] = [edge for edge in moves(way, standing) if edge[1] in here]
+    return edges

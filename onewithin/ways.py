@@ -40,6 +40,14 @@ def check_hand(way, hand):
         raise NoHand("no hand of this way")
 
 
+def check_two(way, hand, other):
+    """Refuse what is no way, then what are not two hands of it."""
+    check_hand(way, hand)
+    check_hand(way, other)
+    if hand == other:
+        raise NoHand("twice the same hand")
+
+
 def part_of(program, place):
     door, within = program[:2]
     if place == 0:
@@ -62,18 +70,24 @@ def is_box(thing):
 
 def is_program(thing, boxes):
     """True where the thing is a program over these boxes, which are known to be boxes."""
-    if not is_tuple(thing, 3, 3):
+    if not is_frame(thing, 16):
         return False
     door, within, rows = thing
-    if not is_tuple(rows, 1, 16) or not is_from_to(within, 1, len(rows)):
-        return False
-    if not is_from_to(door, 0, within - 1):
-        return False
     for at, row in enumerate(rows):
         low, high = places_from(at + 1, within, len(rows))
         if not is_write(row, boxes) and not is_look(row, boxes, low, high):
             return False
     return True
+
+
+def is_frame(thing, most):
+    """True where the thing is a program of at most so many rows, whatever these are."""
+    if not is_tuple(thing, 3, 3):
+        return False
+    door, within, rows = thing
+    if not is_tuple(rows, 1, most) or not is_from_to(within, 1, len(rows)):
+        return False
+    return is_from_to(door, 0, within - 1)
 
 
 def places_from(at, within, many):

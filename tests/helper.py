@@ -259,3 +259,80 @@ def small_ways(many, most):
             found.append((way, far))
         number += 1
     return found
+
+
+def part(way, standing, hand):
+    """The part of a hand's place, by the words of the document."""
+    place = places(standing)[hand]
+    door, within, rows = way[1][hand]
+    if place in range(1, within):
+        return "doorway" if place <= door else "waiting"
+    return "outside" if place == 0 else "within" if place == within else "leaving"
+
+
+def waits(way, standing, hand):
+    return part(way, standing, hand) == "waiting"
+
+
+def flags_template(kind="whole"):
+    return (((kind, 2, 0),), (1, 3, (("write", 0, 1), ("look", "others", 0, (0,), 2), ("write", 0, 0))))
+
+
+def onebit_template(kind="whole"):
+    rows = (("write", 0, 0), ("look", "lower", 0, (0,), 2), ("write", 0, 1), ("look", "lower", 0, (0,), 1),
+            ("look", "higher", 0, (0,), 5), ("write", 0, 0))
+    return (((kind, 2, 0),), (0, 6, rows))
+
+
+def whom_has(whom, hand, other):
+    return other != hand and (whom == "others" or (whom == "lower") == (other < hand))
+
+
+def sources(template, hand, many):
+    """For each row of a hand's program (the number of the template's row of which it comes, whom it looks at)."""
+    found = []
+    for number, row in enumerate(template[1][2], 1):
+        if row[0] == "write":
+            found.append((number, None))
+        else:
+            found += [(number, other) for other in range(many) if whom_has(row[1], hand, other)]
+    return found
+
+
+def expand(template, many):
+    """A second telling of the way of a template: each row looks up of which row it comes."""
+    kinds, (door, within, rows) = template
+    hands = []
+    for hand in range(many):
+        origin = sources(template, hand, many)
+        program = []
+        for number, other in origin:
+            row = rows[number - 1]
+            if other is None:
+                program.append(("write", [(h, k) for h in range(many) for k in range(len(kinds))].index((hand, row[1])),
+                                row[2]))
+            else:
+                place = min(at for at, (source, _) in enumerate(origin, 1) if source >= row[4])
+                program.append(("look", len(kinds) * other + row[2], row[3], place))
+        hands.append((sum(number <= door for number, _ in origin), origin.index((within, None)) + 1, tuple(program)))
+    return (tuple(kind for _ in range(many) for kind in kinds), tuple(hands))
+
+
+def random_template(number, most_rows=5):
+    """A small template, the same for the same number."""
+    chance = random.Random(number)
+    kinds = []
+    for _ in range(chance.choice((1, 1, 2))):
+        size = chance.choice((2, 2, 3))
+        kinds.append((chance.choice(KINDS), size, chance.randrange(size)))
+    many = chance.randint(1, most_rows)
+    within = chance.randint((many + 1) // 2, many)
+    rows = []
+    for at in range(1, many + 1):
+        kind = chance.randrange(len(kinds))
+        if at < within and chance.random() < 0.6:
+            numbers = tuple(value for value in range(kinds[kind][1]) if chance.random() < 0.5)
+            rows.append(("look", chance.choice(("others", "lower", "higher")), kind, numbers, chance.randint(1, within)))
+        else:
+            rows.append(("write", kind, chance.randrange(kinds[kind][1])))
+    return (tuple(kinds), (chance.randrange(within), within, tuple(rows)))
