@@ -336,3 +336,99 @@ def random_template(number, most_rows=5):
         else:
             rows.append(("write", kind, chance.randrange(kinds[kind][1])))
     return (tuple(kinds), (chance.randrange(within), within, tuple(rows)))
+
+
+def pair_start(template):
+    starts = tuple(start for kind, size, start in template[0])
+    return ((0, 0), starts + starts)
+
+
+def pair_take(template, pair, hand, what):
+    """The pair behind a step, None where it can't be taken."""
+    kinds, (door, within, rows) = template
+    spots, values = list(pair[0]), list(pair[1])
+    place, odd = divmod(spots[hand], 2)
+    row = rows[place - 1] if place else ("begin",)
+    if row[0] != "look":
+        if what is not None:
+            return None
+        if row[0] == "write" and kinds[row[1]][0] != "whole" and not odd:
+            spots[hand] += 1
+        else:
+            spots[hand] = 2 * ((place + 1) % (len(rows) + 1))
+            if row[0] == "write":
+                values[len(kinds) * hand + row[1]] = row[2]
+        return tuple(spots), tuple(values)
+    word, whom, kind, numbers, back = row
+    sees = whom_has(whom, hand, 1 - hand)
+    if what == "back":
+        spots[hand] = 2 * back
+    elif what == "on" and (odd or not sees):
+        spots[hand] = 2 * (place + 1)
+    elif isinstance(what, int) and sees and not odd and pair_can_be_told(template, pair, 1 - hand, kind, what):
+        spots[hand] = spots[hand] + 1 if what in numbers else 2 * back
+    else:
+        return None
+    return tuple(spots), tuple(values)
+
+
+def pair_can_be_told(template, pair, owner, kind, number):
+    """True where a look at the owner's box of a kind can be told this number."""
+    kinds, (door, within, rows) = template
+    place, odd = divmod(pair[0][owner], 2)
+    if number == pair[1][len(kinds) * owner + kind]:
+        return True
+    if not odd or rows[place - 1][:2] != ("write", kind):
+        return False
+    return number < kinds[kind][1] and (kinds[kind][0] == "torn" or number == rows[place - 1][2])
+
+
+def pair_steps(template, pair):
+    found = []
+    for hand in (0, 1):
+        for what in (None, 0, 1, 2, 3, 4, "on", "back"):
+            behind = pair_take(template, pair, hand, what)
+            if behind is not None:
+                found.append(((hand, what), behind))
+    return found
+
+
+def pairs_come_to(template):
+    found = {pair_start(template)}
+    waiting = list(found)
+    while waiting:
+        for step, behind in pair_steps(template, waiting.pop()):
+            if behind not in found:
+                found.add(behind)
+                waiting.append(behind)
+    return found
+
+
+def pair_seen(template, many, standing, low, high):
+    """What a standing of the way for so many is for two of its hands: a pair."""
+    kinds = len(template[0])
+    spots = []
+    for hand, other in ((low, high), (high, low)):
+        place, amid = divmod(standing[0][hand], 2)
+        if place == 0:
+            spots.append(0)
+            continue
+        number, looked = sources(template, hand, many)[place - 1]
+        row = template[1][2][number - 1]
+        seen = row[0] == "look" and whom_has(row[1], hand, other) and other < looked
+        spots.append(2 * number + (1 if amid or seen else 0))
+    values = standing[1]
+    return tuple(spots), values[kinds * low:kinds * low + kinds] + values[kinds * high:kinds * high + kinds]
+
+
+def pairs_3000():
+    rows = (("look", "higher", 0, (0, 1, 2, 3, 4), 2), ("look", "others", 0, (0, 2, 3), 5), ("write", 0, 2),
+            ("write", 1, 2), ("look", "others", 1, (0, 1, 2), 4), ("look", "lower", 0, (2,), 8), ("write", 0, 2),
+            ("write", 1, 1))
+    return ((("torn", 5, 0), ("whole", 5, 0)), (0, 8, rows))
+
+
+def pairs_3001():
+    rows = (("look", "lower", 0, (1, 2, 3, 4), 3), ("write", 0, 3), ("look", "higher", 1, (1, 3, 4), 7),
+            ("write", 1, 1), ("look", "others", 0, (0, 4), 8), ("write", 0, 2), ("write", 1, 4), ("write", 0, 4))
+    return ((("whole", 5, 0), ("torn", 5, 0)), (0, 8, rows))
