@@ -14,6 +14,11 @@ def first_standing(way):
 def is_standing(way, thing):
     """True where the thing, of any kind, is a standing of the way, come to or not."""
     check_way(way)
+    return is_standing_of(way, thing)
+
+
+def is_standing_of(way, thing):
+    """The same of what is known to be a way."""
     boxes, hands = way
     if not is_tuple(thing, 2, 2):
         return False

@@ -2,14 +2,12 @@
 
 from onewithin.errors import NoMany, NoNode
 from onewithin.plain import is_from_to
-from onewithin.ways import is_way
+from onewithin.ways import is_node
 
 
 def tree(node, many):
     """The tree of a node for 2 to 4 hands, a way."""
-    check_node(node)
-    if not is_from_to(many, 2, 4):
-        raise NoMany("no number of hands from 2 to 4")
+    check_tree(node, many)
     boxes, (left, right) = node
     size = len(boxes)
     if many == 2:
@@ -22,24 +20,12 @@ def tree(node, many):
     return boxes * 3, hands + (joined(left, size, right, top), joined(right, size, right, top))
 
 
-def check_node(node):
+def check_tree(node, many):
+    """Refuse what is no node, then what is no number of hands of its tree."""
     if not is_node(node):
         raise NoNode("no node of a tree")
-
-
-def is_node(thing):
-    """True where the thing, of any kind, is a node."""
-    if not is_way(thing):
-        return False
-    boxes, hands = thing
-    if len(hands) != 2 or len(boxes) > 4 or not all([kind == "whole" for kind, size, start in boxes]):
-        return False
-    return all([is_node_program(program) for program in hands])
-
-
-def is_node_program(program):
-    door, within, rows = program
-    return len(rows) <= 8 and all([row[0] == "write" for row in rows[within - 1:]])
+    if not is_from_to(many, 2, 4):
+        raise NoMany("no number of hands from 2 to 4")
 
 
 def joined(first, at, top, top_at):

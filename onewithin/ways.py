@@ -20,6 +20,16 @@ def is_way(thing):
     return all([writers(hands, box) <= 1 for box in range(len(boxes)) if boxes[box][0] != "whole"])
 
 
+def is_node(thing):
+    """True where the thing, of any kind, is a node of a tree."""
+    if not is_way(thing):
+        return False
+    boxes, hands = thing
+    if len(hands) != 2 or len(boxes) > 4 or not all([kind == "whole" for kind, size, start in boxes]):
+        return False
+    return all([is_node_program(program) for program in hands])
+
+
 def part_at(way, hand, place):
     """The part in which a hand is at a place, as a text."""
     check_hand(way, hand)
@@ -78,6 +88,12 @@ def is_program(thing, boxes):
         if not is_write(row, boxes) and not is_look(row, boxes, low, high):
             return False
     return True
+
+
+def is_node_program(program):
+    """True where what is known to be a program of a way is one of a node."""
+    door, within, rows = program
+    return len(rows) <= 8 and all([row[0] == "write" for row in rows[within - 1:]])
 
 
 def is_frame(thing, most):

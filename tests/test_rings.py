@@ -3,39 +3,9 @@
 import unittest
 
 import helper
+import truths
 from onewithin.errors import NoHand, NoWay, TooMany
 from onewithin.rings import kept_out, stuck
-
-
-def ring_there(way, bases, node, edge):
-    """True where there is a fair ring at one of the bases along such standings and steps.
-
-    By the words of the document: all rings are gone through, with which hands have stepped and which stayed outside.
-    """
-    return any(ring_at(way, base, node, edge) for base in bases if node(base))
-
-
-def outside_hands(standing):
-    return frozenset(hand for hand, spot in enumerate(standing[0]) if spot == 0)
-
-
-def ring_at(way, base, node, edge):
-    many = len(way[1])
-    begin = (base, frozenset(), outside_hands(base))
-    found = {begin}
-    waiting = [begin]
-    while waiting:
-        standing, stepped, outside = waiting.pop()
-        for (hand, told), behind in helper.steps(way, standing):
-            if not node(behind) or not edge(standing, hand, behind):
-                continue
-            fresh = (behind, stepped | {hand}, outside & outside_hands(behind))
-            if behind == base and len(fresh[1] | fresh[2]) == many:
-                return True
-            if fresh not in found:
-                found.add(fresh)
-                waiting.append(fresh)
-    return False
 
 
 class Rings(unittest.TestCase):
@@ -69,15 +39,14 @@ class Rings(unittest.TestCase):
         return told
 
     def check_kept(self, way, far, hand):
-        if ring_there(way, far, lambda standing: helper.on_its_way(way, standing, hand), lambda *step: True):
+        if truths.kept_ring(way, far, hand) is not None:
             self.walk_kept(way, hand)
             return True
         self.assertIsNone(kept_out(way, hand), (way, hand))
         return False
 
     def check_stuck(self, way, far):
-        if ring_there(way, far, lambda standing: any(standing[0]),
-                      lambda ahead, hand, behind: not helper.comes_in(way, ahead, behind, hand)):
+        if truths.stuck_ring(way, far) is not None:
             self.walk_stuck(way)
             return True
         self.assertIsNone(stuck(way), way)

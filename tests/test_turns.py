@@ -4,46 +4,9 @@ import copy
 import unittest
 
 import helper
+import truths
 from onewithin.errors import NoHand, NoWay, TooMany
 from onewithin.turns import most_goings, out_of_turn
-
-
-def shortest_out_of_turn(way, far, hand, other):
-    """How many steps a shortest run out of turn has, None where there is none.
-
-    By the words of the document: from each standing in which the hand waits and the other is outside it is gone on
-    along those in which the hand waits.
-    """
-    found = []
-    for base in far:
-        if helper.waits(way, base, hand) and helper.part(way, base, other) == "outside":
-            on = {base: 0}
-            waiting = [base]
-            for here in waiting:
-                if helper.part(way, here, other) == "within":
-                    found.append(far[base] + on[here])
-                for step, behind in helper.steps(way, here):
-                    if helper.waits(way, behind, hand) and behind not in on:
-                        on[behind] = on[here] + 1
-                        waiting.append(behind)
-    return min(found, default=None)
-
-
-def greatest(way, far, hand):
-    """The most goings-in, by trying longer and longer runs; None where more steps than standings still make it more."""
-    edges = {}
-    for standing in far:
-        if helper.waits(way, standing, hand):
-            edges[standing] = [(helper.comes_in(way, standing, behind, who), behind)
-                               for (who, told), behind in helper.steps(way, standing)
-                               if helper.waits(way, behind, hand)]
-    most = dict.fromkeys(edges, 0)
-    for _ in range(len(edges) + 1):
-        more = {standing: max([0] + [goes + most[behind] for goes, behind in edges[standing]]) for standing in edges}
-        if more == most:
-            return max(most.values(), default=0)
-        most = more
-    return None
 
 
 class OutOfTurn(unittest.TestCase):
@@ -61,7 +24,7 @@ class OutOfTurn(unittest.TestCase):
         self.fail("it hasn't waited since the other was outside")
 
     def check(self, way, far, hand, other):
-        expected = shortest_out_of_turn(way, far, hand, other)
+        expected = truths.shortest_out_of_turn(way, far, hand, other)
         if expected is None:
             self.assertIsNone(out_of_turn(way, hand, other), (way, hand, other))
         else:
@@ -161,7 +124,7 @@ class Goings(unittest.TestCase):
                     helper.onebit(), helper.onebit("torn"), helper.careless(2)):
             far = helper.distances(way)
             for hand in range(len(way[1])):
-                self.assertEqual(most_goings(way, hand), greatest(way, far, hand), (way, hand))
+                self.assertEqual(most_goings(way, hand), truths.greatest(way, far, hand), (way, hand))
 
     def test_0_where_it_never_waits(self):
         quick = helper.plain_hand(1)
@@ -194,7 +157,7 @@ class Goings(unittest.TestCase):
             hand = (door, 5, tuple(("write", 0, value) for value in (1, 0, 1, 0, 0)))
             way = ((("whole", 2, 0),) * 2, (hand, other))
             self.assertEqual(most_goings(way, 0), most)
-            self.assertEqual(greatest(way, helper.distances(way), 0), most)
+            self.assertEqual(truths.greatest(way, helper.distances(way), 0), most)
 
     def test_going_back_to_the_doorway_ends_a_waiting(self):
         # Hand 1 goes in once for each time that hand 0 goes through its doorway again.
@@ -215,7 +178,7 @@ class Goings(unittest.TestCase):
         for way, far in helper.small_ways(400, 60):
             for hand in range(len(way[1])):
                 told.append(most_goings(way, hand))
-                self.assertEqual(told[-1], greatest(way, far, hand), (way, hand))
+                self.assertEqual(told[-1], truths.greatest(way, far, hand), (way, hand))
         self.assertGreater(told.count(None), 50)
         self.assertGreater(len([number for number in told if number]), 20)
 
