@@ -11,19 +11,28 @@ def kept_out(way, hand):
     """(run, ring) by which a hand is on its way for ever, or None."""
     check_hand(way, hand)
     table = table_of(way)
-    here = {standing: True for standing in table if is_on_its_way(way, standing, hand)}
-    return run_and_ring(table, edges_among(way, here))
+    return run_and_ring(table, edges_on_its_way(way, table, hand))
 
 
 def stuck(way):
     """(run, ring) by which not all are outside and nobody comes within for ever, or None."""
     check_way(way)
     table = table_of(way)
+    return run_and_ring(table, edges_in_vain(way, table))
+
+
+def edges_on_its_way(way, table, hand):
+    """The edges among those standings of the table in which the hand is on its way."""
+    return edges_among(way, {standing: True for standing in table if is_on_its_way(way, standing, hand)})
+
+
+def edges_in_vain(way, table):
+    """The edges among those in which not all are outside, but those by which a hand comes within."""
     edges = {}
     for standing in table:
         if not are_all_outside(standing):
             edges[standing] = [edge for edge in moves(way, standing) if is_vain(way, standing, edge)]
-    return run_and_ring(table, edges)
+    return edges
 
 
 def is_vain(way, standing, edge):
@@ -39,11 +48,16 @@ def run_and_ring(table, edges):
     knot is at the same spot all along it, so there is a fair ring in the knot just where all of these are outside.
     """
     for knot in knots_of(edges):
-        first = list(knot)[0]
-        stepping = hands_stepping(knot)
-        if all([hand in stepping for hand in hands_inside(first)]):
+        if not helpers_in(knot):
+            first = list(knot)[0]
             return run_in(table, first), ring_at(knot, first)
     return None
+
+
+def helpers_in(knot):
+    """The hands that aren't outside in a knot and take no step in it: each of their steps leads out of it."""
+    stepping = hands_stepping(knot)
+    return [hand for hand in hands_inside(list(knot)[0]) if hand not in stepping]
 
 
 def hands_inside(standing):

@@ -432,3 +432,35 @@ def pairs_3001():
     rows = (("look", "lower", 0, (1, 2, 3, 4), 3), ("write", 0, 3), ("look", "higher", 1, (1, 3, 4), 7),
             ("write", 1, 1), ("look", "others", 0, (0, 4), 8), ("write", 0, 2), ("write", 1, 4), ("write", 0, 4))
     return ((("whole", 5, 0), ("torn", 5, 0)), (0, 8, rows))
+
+
+def vast_node():
+    """A node of more than 3000 standings."""
+    first = (("look", 0, (1, 2, 3), 3), ("write", 2, 1), ("write", 0, 4), ("look", 0, (0, 2, 3), 6), ("write", 2, 3),
+             ("look", 1, (0, 2, 4), 8), ("write", 3, 1), ("write", 1, 3))
+    second = (("write", 0, 0), ("look", 0, (1, 4), 5), ("write", 1, 1), ("write", 0, 2), ("look", 1, (2, 3), 7),
+              ("write", 1, 2), ("look", 0, (0, 1, 3, 4), 1), ("write", 3, 2))
+    boxes = tuple(("whole", 5, start) for start in (3, 0, 4, 4))
+    return (boxes, ((0, 8, first), (0, 8, second)))
+
+
+def breaks_by_3():
+    """Who has anybody below goes in at once: of two hands the one, of three two."""
+    return ((("whole", 2, 1),), (0, 3, (("look", "lower", 0, (), 3), ("look", "others", 0, (), 1), ("write", 0, 0))))
+
+
+def never_seen():
+    """Nobody ever sees the 0 by which it would go in; a pair can't tell that no third one makes it."""
+    return ((("either", 2, 1),), (0, 3, (("look", "higher", 0, (1,), 3), ("look", "others", 0, (), 2), ("write", 0, 1))))
+
+
+def large_for_3():
+    """As never_seen, but its way for 3 is larger than is gone through."""
+    rows = (("look", "others", 0, (1,), 8), ("write", 1, 1), ("write", 1, 2), ("write", 1, 3), ("write", 1, 4),
+            ("write", 1, 2), ("look", "others", 0, (), 1), ("write", 0, 1))
+    return ((("either", 2, 1), ("torn", 5, 0)), (0, 8, rows))
+
+
+def large_and_broken():
+    """All go in at once; its way for 3 is larger than is gone through."""
+    return ((("torn", 5, 0),), (0, 1, tuple(("write", 0, number % 5) for number in range(8))))

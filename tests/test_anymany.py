@@ -11,28 +11,6 @@ from onewithin.safety import two_within
 from onewithin.templates import is_template, way_for
 
 
-def breaks_by_3():
-    """Who has anybody below goes in at once: of two hands the one, of three two."""
-    return ((("whole", 2, 1),), (0, 3, (("look", "lower", 0, (), 3), ("look", "others", 0, (), 1), ("write", 0, 0))))
-
-
-def never_seen():
-    """Nobody ever sees the 0 by which it would go in; a pair can't tell that no third one makes it."""
-    return ((("either", 2, 1),), (0, 3, (("look", "higher", 0, (1,), 3), ("look", "others", 0, (), 2), ("write", 0, 1))))
-
-
-def large_for_3():
-    """As never_seen, but its way for 3 is larger than is gone through."""
-    rows = (("look", "others", 0, (1,), 8), ("write", 1, 1), ("write", 1, 2), ("write", 1, 3), ("write", 1, 4),
-            ("write", 1, 2), ("look", "others", 0, (), 1), ("write", 0, 1))
-    return ((("either", 2, 1), ("torn", 5, 0)), (0, 8, rows))
-
-
-def large_and_broken():
-    """All go in at once; its way for 3 is larger than is gone through."""
-    return ((("torn", 5, 0),), (0, 1, tuple(("write", 0, number % 5) for number in range(8))))
-
-
 class ForAny(unittest.TestCase):
     def both_within(self, template):
         within = template[1][1]
@@ -72,13 +50,13 @@ class ForAny(unittest.TestCase):
             self.assertEqual(self.check(helper.onebit_template(kind))[:2], ("breaks", 2))
 
     def test_breaks_by_3(self):
-        told = self.check(breaks_by_3())
+        told = self.check(helper.breaks_by_3())
         self.assertEqual(told[:2], ("breaks", 3))
         self.assertEqual(len(told[2]), 4)
-        self.assertIsNone(two_within(way_for(breaks_by_3(), 2)))
+        self.assertIsNone(two_within(way_for(helper.breaks_by_3(), 2)))
 
     def test_open(self):
-        self.assertEqual(self.check(never_seen()), ("open",))
+        self.assertEqual(self.check(helper.never_seen()), ("open",))
 
     def test_random_templates(self):
         told = {}
@@ -116,7 +94,7 @@ class Refusals(unittest.TestCase):
             for_any(template)
 
     def test_too_many_for_3_where_it_is_come_to(self):
-        template = large_for_3()
+        template = helper.large_for_3()
         self.assertTrue(is_template(template))
         self.assertLess(len(all_pairs(template)), 3000)
         self.assertIsNone(two_within(way_for(template, 2)))
@@ -126,14 +104,14 @@ class Refusals(unittest.TestCase):
             for_any(template)
 
     def test_not_where_it_isnt_come_to(self):
-        template = large_and_broken()
+        template = helper.large_and_broken()
         self.assertTrue(is_template(template))
         with self.assertRaises(TooMany):
             two_within(way_for(template, 3))
         self.assertEqual(for_any(template)[:2], ("breaks", 2))
 
     def test_nothing_changes(self):
-        template = breaks_by_3()
+        template = helper.breaks_by_3()
         kept = copy.deepcopy(template)
         self.assertEqual(for_any(template), for_any(template))
         self.assertEqual(template, kept)

@@ -88,9 +88,44 @@ class Language(unittest.TestCase):
                     self.assertNotIn(getattr(node, "id", getattr(node, "arg", None)), taken, name)
 
     def test_methods(self):
+        own = {part.name for name, node in self.nodes(ast.ClassDef) for part in node.body
+               if isinstance(part, ast.FunctionDef)}
         for name, node in self.nodes(ast.Call):
             if isinstance(node.func, ast.Attribute):
-                self.assertIn(node.func.attr, METHODS, name)
+                self.assertIn(node.func.attr, METHODS | own, name)
+        kept = {node.attr for name, node in self.nodes(ast.Attribute) if isinstance(node.ctx, ast.Store)}
+        self.assertFalse(own & kept)
+
+    def test_methods_of_the_interface(self):
+        desk = [node for name, node in self.nodes(ast.ClassDef) if node.name == "Desk"][0]
+        self.assertIn("say", [part.name for part in desk.body if isinstance(part, ast.FunctionDef)])
+
+    def test_lambdas_on_one_line(self):
+        seen = set()
+        for name, node in self.nodes(ast.Lambda):
+            place = (name, node.lineno, tuple(part.arg for part in node.args.args))
+            self.assertNotIn(place, seen)
+            seen.add(place)
+
+    def test_module_level(self):
+        for name, tree in self.trees.items():
+            bound = []
+            for node in tree.body:
+                docstring = isinstance(node, ast.Expr) and isinstance(node.value, ast.Constant)
+                self.assertTrue(docstring or isinstance(
+                    node, (ast.ImportFrom, ast.FunctionDef, ast.ClassDef, ast.Assign)), name)
+                if isinstance(node, ast.ImportFrom):
+                    bound += [part.name for part in node.names]
+                elif isinstance(node, ast.Assign):
+                    bound.append(node.targets[0].id)
+                elif not docstring:
+                    bound.append(node.name)
+            self.assertEqual(len(bound), len(set(bound)), name)
+
+    def test_no_generators_and_no_stored_sets(self):
+        # What the package has no need of, so that the rules over them needn't be looked at.
+        for name, node in self.nodes((ast.GeneratorExp, ast.Yield, ast.YieldFrom, ast.SetComp, ast.Try, ast.With)):
+            self.fail(f"{name} {node.lineno}")
 
     def test_is(self):
         for name, node in self.nodes(ast.Compare):
