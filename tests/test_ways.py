@@ -53,6 +53,14 @@ class Boxes(Whole):
         self.refuses(of_box(()), of_box(("whole", 2)), of_box(("whole", 2, 0, 0)), of_box((2, 0)))
         self.refuses(of_box(["whole", 2, 0]), of_box("whole"), of_box({"kind": "whole"}), of_box(None))
 
+    def test_each_box_is_looked_at(self):
+        # No row has anything to do with the odd one.
+        for odd in (("whole", 6, 0), ("whole", 2, 2), ("wooden", 2, 0), ["whole", 2, 0], None, ()):
+            for at, boxes in enumerate(((odd, BOX, BOX), (BOX, odd, BOX), (BOX, BOX, odd))):
+                box = (at + 1) % 3
+                self.takes(((BOX,) * 3, ((0, 1, (("look", box, (), 1),)),)))
+                self.refuses((boxes, ((0, 1, (("look", box, (), 1),)),)))
+
     def test_how_many(self):
         program = (0, 1, (("look", 0, (), 1),))
         self.takes(((BOX,), (program,)), ((BOX,) * 12, (program,)))
